@@ -1,0 +1,1 @@
+"""Caretakers, askers, and ways of letting go."""
