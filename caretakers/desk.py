@@ -4,6 +4,7 @@ from caretakers.node_calls import answer_node_call
 from caretakers.refusals import OUT_OF_RANGE
 from caretakers.refusals import TOO_MUCH
 from caretakers.refusals import is_within
+from caretakers.row_calls import answer_row_call
 from caretakers.store import Store
 from caretakers.store_calls import answer_store_call
 from caretakers.tree import Tree
@@ -11,9 +12,14 @@ from caretakers.tree import Tree
 GREATEST_NOW = 10000
 GREATEST_PASS = 1000
 PASS_CALL = 8
+FIRST_CALL_WITH_ROW = 19
 
-# By a call's number: how many numbers stand behind it.
-SIZES = {0: 5, 1: 2, 2: 1, 3: 2, 4: 1, 5: 1, 6: 1, 7: 0, 8: 1, 9: 5, 10: 1, 11: 2, 12: 1, 13: 1}
+# By a call's number: how many whole numbers stand behind it, its row apart.
+SIZES = {
+    0: 5, 1: 2, 2: 1, 3: 2, 4: 1, 5: 1, 6: 1, 7: 0, 8: 1,
+    9: 5, 10: 1, 11: 2, 12: 1, 13: 1, 14: 1, 15: 0, 16: 0, 17: 1, 18: 0,
+    19: 1, 20: 0, 21: 1, 22: 1, 23: 2, 24: 2, 25: 1, 26: 3, 27: 2,
+}
 
 
 class Desk:
@@ -42,6 +48,11 @@ def answer_call(desk, call, numbers):
     return answer_store_call(desk, call, numbers)
 
 
+def row_at(calls, place):
+    """The row whose length stands at this place."""
+    return calls[place + 1:place + 1 + calls[place]]
+
+
 def answers(calls):
     """For each call, in order: how many numbers are answered, then these."""
     desk = Desk()
@@ -50,7 +61,13 @@ def answers(calls):
     while place < len(calls):
         call = calls[place]
         behind = place + 1 + SIZES[call]
-        answer = answer_call(desk, call, calls[place + 1:behind])
+        numbers = calls[place + 1:behind]
+        if call >= FIRST_CALL_WITH_ROW:
+            row = row_at(calls, behind)
+            behind += 1 + len(row)
+            answer = answer_row_call(call, numbers, row)
+        else:
+            answer = answer_call(desk, call, numbers)
         told.append(len(answer))
         told.extend(answer)
         place = behind

@@ -8,6 +8,8 @@ WRONG_PARENT = -5
 WRONG_SORT = -6
 TOO_MUCH = -7
 
+GREATEST_KEY = 99
+
 
 def is_within(number, least, greatest):
     return least <= number <= greatest
@@ -19,3 +21,7 @@ def are_within(numbers, ranges):
         if not is_within(number, ends[0], ends[1]):
             return False
     return True
+
+
+def is_key(number):
+    return is_within(number, 0, GREATEST_KEY)

@@ -35,6 +35,9 @@ class Store:
         self.faults = {}
         self.untried_till = {}
         self.asked = 0
+        # Of all asks, those that came to a fresh answer, and those that began a work.
+        self.asked_fresh = 0
+        self.asked_anew = 0
 
     def settle(self, room, age, limit, base, most):
         self.room = room
@@ -76,6 +79,13 @@ class Store:
                 return work
         return None
 
+    def faults_of(self, key):
+        return self.faults.get(key, 0)
+
+    def minute_of(self, key):
+        """Till when nothing is tried of the key."""
+        return self.untried_till.get(key, 0)
+
     def end_work(self, work):
         # A key has one work under way at most.
         self.works = [other for other in self.works if other.key != work.key]
@@ -86,15 +96,17 @@ class Store:
         self.asked += 1
         answer = self.fresh_answer(key, now)
         if answer is not None:
+            self.asked_fresh += 1
             self.put_first(answer)
             return [number, FRESH, answer.value]
         work = self.work_of(key)
         if work is not None:
             work.waiting.append(number)
             return [number, UNDER_WAY, work.since]
-        till = self.untried_till.get(key, 0)
+        till = self.minute_of(key)
         if now < till:
             return [number, NOT_TRIED, till]
+        self.asked_anew += 1
         self.begin_work(key, number, now)
         return [number, BEGUN, now]
 
@@ -113,7 +125,7 @@ class Store:
 
     def fail(self, work, now):
         self.end_work(work)
-        faults = self.faults.get(work.key, 0) + 1
+        faults = self.faults_of(work.key) + 1
         self.faults[work.key] = faults
         self.untried_till[work.key] = 0
         if 0 < self.limit <= faults:
@@ -132,3 +144,9 @@ class Store:
             return False
         self.end_work(work)
         return True
+
+    def forget(self, key):
+        self.drop(key)
+        work = self.work_of(key)
+        if work is not None:
+            work.will_be_kept = False

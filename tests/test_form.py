@@ -33,6 +33,12 @@ WORDS = re.compile(
     r"\b(type|typing|typing_extensions|enum|Enum|IntEnum|StrEnum|Flag|IntFlag|Generic|Protocol|ABC|ABCMeta|namedtuple"
     r"|NamedTuple|TypedDict|TYPE_CHECKING|abstractmethod)\b|dataclass|overload|contextmanager"
 )
+WALKED = ("range", "zip", "enumerate", "reversed")
+WALKERS = ("list", "tuple", "dict", "sorted", "sum", "any", "all", "enumerate", "zip", "min", "max")
+KEYWORDS = {
+    "sorted": ("key", "reverse"), "min": ("key", "default"), "max": ("key", "default"), "sum": ("start",),
+    "enumerate": ("start",), "zip": ("strict",),
+}
 NAME = re.compile(r"[A-Za-z][A-Za-z0-9_]*\Z")
 
 
@@ -131,6 +137,50 @@ class Form(unittest.TestCase):
         for name, node in nodes:
             if isinstance(node, ast.Call) and isinstance(node.func, ast.Attribute):
                 self.assertIn(node.func.attr, METHODS + own, (name, node.lineno))
+
+    def test_is_stands_beside_none_true_and_false_alone(self):
+        for name, node in all_nodes():
+            if isinstance(node, ast.Compare):
+                for operator, right in zip(node.ops, node.comparators):
+                    if isinstance(operator, (ast.Is, ast.IsNot)):
+                        self.assertIsInstance(right, ast.Constant, (name, node.lineno))
+                        self.assertIn(right.value, (None, True, False), (name, node.lineno))
+
+    def test_what_is_walked_is_walked_at_once(self):
+        for path in FILES:
+            walked = []
+            for node in ast.walk(tree_of(path)):
+                if isinstance(node, (ast.For, ast.comprehension)):
+                    walked.append(ast.dump(node.iter, include_attributes=True))
+                elif isinstance(node, ast.Call) and getattr(node.func, "id", "") in WALKERS and node.args:
+                    walked.append(ast.dump(node.args[0], include_attributes=True))
+            for node in ast.walk(tree_of(path)):
+                if isinstance(node, ast.Call) and getattr(node.func, "id", "") in WALKED:
+                    self.assertIn(ast.dump(node, include_attributes=True), walked, (path.name, node.lineno))
+
+    def test_keywords_are_those_that_are_allowed(self):
+        own = [node.name for name, node in all_nodes() if isinstance(node, (ast.FunctionDef, ast.ClassDef))]
+        for name, node in all_nodes():
+            if isinstance(node, ast.Call) and getattr(node.func, "id", "") not in own:
+                allowed = KEYWORDS.get(getattr(node.func, "id", ""), ())
+                for keyword in node.keywords:
+                    self.assertIn(keyword.arg, allowed, (name, node.lineno))
+
+    def test_values_at_a_files_top_are_plain(self):
+        for path in FILES:
+            above = []
+            for node in tree_of(path).body:
+                if isinstance(node, ast.FunctionDef):
+                    above.append(node.name)
+                if not isinstance(node, ast.Assign):
+                    continue
+                for part in ast.walk(node.value):
+                    self.assertIsInstance(part, (ast.Constant, ast.UnaryOp, ast.USub, ast.List, ast.Tuple, ast.Dict,
+                                                 ast.Name, ast.Load), (path.name, node.lineno))
+                    if isinstance(part, ast.Name):
+                        self.assertIn(part.id, above, (path.name, node.lineno))
+                    if part is not node.value:
+                        self.assertNotIsInstance(part, (ast.List, ast.Dict), (path.name, node.lineno))
 
     def test_what_stands_at_a_files_top(self):
         for path in FILES:
